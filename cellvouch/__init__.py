@@ -1,0 +1,1 @@
+"""Cellvouch: deeds on cells, held to what they claim."""
