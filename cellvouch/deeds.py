@@ -111,3 +111,17 @@ def ghosts_of(deed):
 def rows_of(deed):
     """How many rows a deed has, those within others among them."""
     return len(all_rows(deed[5]))
+
+
+def by_name(deeds):
+    """A dict from the names of deeds to the deeds."""
+    return {deed[0]: deed for deed in deeds}
+
+
+def is_there(deeds, call):
+    """Whether a call's deed is in such a dict, and takes and tells as many."""
+    outs, name, terms = call[1:]
+    if name not in deeds:
+        return False
+    takes, tells = deeds[name][1:3]
+    return len(takes) == len(terms) and len(tells) == len(outs)

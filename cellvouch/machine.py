@@ -2,7 +2,7 @@
 
 from heapq import heappop, heappush
 
-from cellvouch.deeds import locals_of, rows_of
+from cellvouch.deeds import by_name, is_there, locals_of, rows_of
 from cellvouch.heaps import cells_of, heap_of
 from cellvouch.rows import FIELDS, all_rows
 from cellvouch.words import number_of
@@ -131,7 +131,7 @@ class Machine:
     """Deeds that are done on a heap: the frames stand one within the other, the inmost last."""
 
     def __init__(self, deeds, heap, places, steps):
-        self.deeds = {deed[0]: deed for deed in deeds}
+        self.deeds = by_name(deeds)
         self.plans = {deed[0]: planned(deed[5], 0, rows_of(deed)) for deed in deeds}
         self.cells = cells_of(heap)
         self.room = Room(places)
@@ -153,18 +153,10 @@ class Machine:
         frame.goes_on()
         return None
 
-    def is_there(self, call):
-        """Whether a call's deed is in the list, and takes and tells as many."""
-        outs, name, terms = call[1:]
-        if name not in self.deeds:
-            return False
-        takes, tells = self.deeds[name][1:3]
-        return len(takes) == len(terms) and len(tells) == len(outs)
-
     def call(self, row, frame):
         """Come to a call; what is told where it isn't done."""
         name = row[2]
-        if not self.is_there(row):
+        if not is_there(self.deeds, row):
             return ("absent", name)
         if len(self.frames) > MOST_CALLED:
             return ("deep",)

@@ -19,6 +19,7 @@ METHODS = """
 """.split()
 OUTSIDE = {"heapq": ("heappush", "heappop", "heapify"), "math": ("gcd", "lcm"),
            "itertools": ("product", "combinations", "permutations")}
+DOUBLES = ("__init__",)
 STATEMENTS = (
     ast.FunctionDef, ast.ClassDef, ast.Import, ast.ImportFrom, ast.Assign, ast.AugAssign, ast.If, ast.While, ast.For,
     ast.Return, ast.Break, ast.Continue, ast.Pass, ast.Raise, ast.Assert, ast.Delete, ast.Try, ast.Expr,
@@ -162,7 +163,7 @@ class Language(unittest.TestCase):
     def test_names(self):
         for path, tree in self.trees.items():
             outer = imported_and_classes(tree)
-            for name in [name for name in bound_names(tree) if name != "__init__"]:
+            for name in [name for name in bound_names(tree) if name not in DOUBLES]:
                 self.assertFalse(hasattr(builtins, name), (path, name))
                 self.assertNotIn(name, outer, path)
                 self.assertNotIn(name, BARRED_NAMES, path)
@@ -221,6 +222,9 @@ class Language(unittest.TestCase):
             "deeds": "is_deed locals_of ghosts_of rows_of",
             "texts": "show_claim show_deed read_claim read_deed",
             "machine": "run",
+            "loose": "pieces played",
+            "alls": "can_be within",
+            "verdicts": "verdict",
         }
         for file, names in places.items():
             for name in names.split():

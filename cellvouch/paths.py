@@ -1,0 +1,210 @@
+"""All loose runs of a piece at once: paths, each a case with what was drawn on the way to it."""
+
+from cellvouch.cases import Case
+from cellvouch.fitting import brought, met, number_for, row_for
+from cellvouch.loops import Piece, deed_rows, names_set_within
+from cellvouch.meeting import Fails, cells_at, where_apart, where_one
+from cellvouch.models import Model, numbers_in
+from cellvouch.rows import FIELDS, all_rows
+from cellvouch.words import number_of
+
+
+class Path:
+    """A case, the worths of names in it, and the draws: an address, or blocks and numbers."""
+
+    def __init__(self, case, worths, draws):
+        self.case = case
+        self.worths = worths
+        self.draws = draws
+
+    def with_case(self, case):
+        """The same path in another case."""
+        return Path(case, dict(self.worths), self.draws)
+
+    def drawn(self, draw):
+        """Note a draw."""
+        self.draws = self.draws + (draw,)
+
+
+def set_paths(path, row):
+    """The paths behind a set."""
+    path.worths[row[1]] = number_of(row[2], path.worths)
+    return [path]
+
+
+def new_paths(path, row):
+    """The paths behind a new."""
+    address = path.case.new_number()
+    worth, after = [number_of(term, path.worths) for term in row[2:4]]
+    path.case.bring(("cell", address, worth, after))
+    path.worths[row[1]] = address
+    path.drawn(address)
+    return [path]
+
+
+def touched(path, term):
+    """Pairs (path, cell) where a cell lies at a term; fails where none may lie there."""
+    pairs = cells_at(path.case, number_of(term, path.worths), ())
+    return [(path.with_case(case), cell) for case, cell in pairs]
+
+
+def free_paths(path, row):
+    """The paths behind a free."""
+    out = []
+    for told, cell in touched(path, row[1]):
+        told.case.take_out([cell])
+        out.append(told)
+    return out
+
+
+def get_paths(path, row):
+    """The paths behind a get."""
+    out = []
+    for told, cell in touched(path, row[2]):
+        told.worths[row[1]] = told.case.live[cell][FIELDS.index(row[3])]
+        out.append(told)
+    return out
+
+
+def put_paths(path, row):
+    """The paths behind a put."""
+    out = []
+    for told, cell in touched(path, row[1]):
+        fields = list(told.case.live[cell])
+        fields[FIELDS.index(row[2])] = number_of(row[3], told.worths)
+        told.case.live[cell] = tuple(fields)
+        out.append(told)
+    return out
+
+
+PLAIN = {"set": set_paths, "new": new_paths, "free": free_paths, "get": get_paths, "put": put_paths}
+
+
+def where_met(path, row, holds):
+    """The paths, at most one, where the test of an if or a loop holds, or doesn't."""
+    one, other = number_of(row[1], path.worths), number_of(row[3], path.worths)
+    alike = holds == (row[2] == "is")
+    case = where_one(path.case, one, other) if alike else where_apart(path.case, one, other)
+    return [] if case is None else [path.with_case(case)]
+
+
+class Search:
+    """A look for a loose run of a piece that fails; Fails is raised at the first one, path is the way to it."""
+
+    def __init__(self, deeds, piece):
+        self.deeds = deeds
+        self.piece = piece
+        self.path = None
+        self.blocks = None
+        self.started = {}
+
+    def begin(self):
+        """The paths, at most one, with which the piece begins."""
+        piece, case = self.piece, Case()
+        rows = deed_rows(piece.deed)
+        for name in piece.known:
+            if name in rows:
+                row_for(case, name, self.started)
+            else:
+                number_for(case, name, self.started)
+        worths = dict(self.started)
+        self.blocks = brought(case, piece.ahead, worths)
+        if self.blocks is None:
+            return []
+        worths.update(piece.locals_at_first())
+        path = Path(case, worths, ())
+        return [path] if piece.loop is None else where_met(path, piece.loop, piece.asked)
+
+    def do_rows(self, rows, first, paths):
+        """The paths behind these rows, which are numbered from first on."""
+        here = first
+        for row in rows:
+            out = []
+            for path in paths:
+                out.extend(self.do_row(row, here, path))
+            paths = out
+            here += len(all_rows((row,)))
+        return paths
+
+    def do_row(self, row, here, path):
+        """The paths behind a row."""
+        self.path = path
+        if row[0] == "if":
+            rows = self.do_rows(row[4], here + 1, where_met(path, row, True))
+            others = where_met(path, row, False)
+            return rows + self.do_rows(row[5], here + 1 + len(all_rows(row[4])), others)
+        if row[0] == "while":
+            return self.leap_loop(row, path, list(path.worths))
+        if row[0] == "call":
+            return self.leap_call(row, path)
+        action = PLAIN[row[0]]
+        return action(path, row)
+
+    def leap_loop(self, row, path, names):
+        """The paths behind a loop whose claim ahead goes by these names."""
+        known = {name: path.worths[name] for name in names}
+        outs = names_set_within(row)
+        return self.leap(path, row[4:6], known, outs, outs)
+
+    def leap_call(self, row, path):
+        """The paths behind a call."""
+        outs, name, terms = row[1:]
+        takes, tells, ahead, behind = self.deeds[name][1:5]
+        known = {take: number_of(term, path.worths) for take, term in zip(takes, terms)}
+        return self.leap(path, (ahead, behind), known, tells, outs)
+
+    def leap(self, path, claims, known, names, outs):
+        """The paths where a claim ahead goes out and a claim behind comes in; names of it are outs of ours."""
+        out = []
+        for way in met(path.case, claims[0], known, False):
+            told = path.with_case(way.case.twin())
+            told.case.take_out(way.taken)
+            numbers = [told.case.new_number() for _ in names]
+            worths = dict(way.worths)
+            worths.update({name: number for name, number in zip(names, numbers)})
+            blocks = brought(told.case, claims[1], worths)
+            if blocks is not None:
+                told.worths.update({name: number for name, number in zip(outs, numbers)})
+                told.drawn((blocks, numbers))
+                out.append(told)
+        return out
+
+    def look(self):
+        """Go all paths of the piece to their ends."""
+        piece = self.piece
+        paths = self.begin()
+        own = {name: path.worths[name] for path in paths for name in piece.own}
+        paths = self.do_rows(piece.rows, piece.first, paths)
+        if piece.asked:
+            behind = []
+            for path in paths:
+                self.path = path
+                behind.extend(self.leap_loop(piece.loop, path, piece.known))
+            paths = behind
+        for path in paths:
+            self.path = path
+            worths = {name: path.worths[name] for name in piece.names_at_end()}
+            worths.update(own)
+            met(path.case, piece.behind, worths, True)
+
+    def told(self, case, avoided):
+        """A loose run in this case: what it begins with, and its draws."""
+        model = Model(case, avoided)
+        draws = []
+        for draw in self.path.draws:
+            if isinstance(draw, tuple):
+                blocks, numbers = draw
+                draws.append((model.as_heap(blocks), tuple([model.as_number(number) for number in numbers])))
+            else:
+                draws.append(model.as_number(draw))
+        return model.as_worths(self.started), model.as_heap(self.blocks), draws
+
+
+def failing(deeds, deed, number):
+    """A loose run of a piece that fails, as it is told; None where there is none."""
+    search = Search(deeds, Piece(deed, number))
+    try:
+        search.look()
+    except Fails as found:
+        return (number,) + search.told(found.case, numbers_in(tuple(deeds.values())))
+    return None
