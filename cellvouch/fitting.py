@@ -1,9 +1,7 @@
 """Claims that are met in the heap of a case, and claims that come into it."""
 
 from cellvouch.claims import in_order, is_known
-from cellvouch.meeting import (
-    Fails, Way, cell_ways, left_of, must_be_apart, strolls, where_apart, where_one, word_in,
-)
+from cellvouch.meeting import Fails, Way, cell_ways, left_of, must_be_apart, strolls, where_apart, where_one, word_in
 from cellvouch.settling import can_be_so, completed
 from cellvouch.words import number_of, turned
 

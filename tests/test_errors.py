@@ -2,36 +2,49 @@
 
 import unittest
 
-from cellvouch import errors
+from cellvouch import errors, refusals
 from cellvouch.errors import NoDeed, NoName, NoNeed, NoRow, NoText, VouchError
+from cellvouch.refusals import NoLock, NoMark, NoRun, NoStart, NoWork, Over
+from tests.samples import STRANGE
 
-KINDS = (NoText, NoDeed, NoName, NoNeed, NoRow)
+# Each class with the name of its field, or none.
+OLD = ((NoText, None), (NoDeed, None), (NoName, "name"), (NoNeed, "row"), (NoRow, None))
+NEW = ((NoWork, "name"), (NoLock, "name"), (NoStart, None), (NoRun, "asked"), (NoMark, "asked"), (Over, "asked"))
+KINDS = OLD + NEW
 
 
 class Errors(unittest.TestCase):
 
     def test_family(self):
         self.assertEqual(VouchError.__bases__, (ValueError,))
-        for kind in KINDS:
-            self.assertTrue(issubclass(kind, VouchError))
-            self.assertFalse([other for other in KINDS if other is not kind and issubclass(kind, other)])
+        for kind, _ in KINDS:
+            self.assertEqual(kind.__bases__, (VouchError,))
+            self.assertFalse([other for other, _ in KINDS if other is not kind and issubclass(kind, other)])
 
     def test_all_stand_in_their_file(self):
-        for kind in KINDS + (VouchError,):
-            self.assertEqual(kind.__module__, "cellvouch.errors")
-            self.assertIs(getattr(errors, kind.__name__), kind)
+        for module, kinds in ((errors, OLD + ((VouchError, None),)), (refusals, NEW)):
+            for kind, _ in kinds:
+                self.assertEqual(kind.__module__, module.__name__)
+                self.assertIs(getattr(module, kind.__name__), kind)
 
     def test_fields(self):
-        self.assertEqual(NoName("abc").name, "abc")
-        self.assertEqual(NoName(name=("a", [1])).name, ("a", [1]))
-        self.assertEqual(NoNeed(3).row, 3)
-        self.assertIsNone(NoNeed(row=None).row)
+        for kind, field in KINDS:
+            if field is not None:
+                for thing in STRANGE + (3, "abc", ("a", [1])):
+                    self.assertIs(getattr(kind(thing), field), thing)
+                    self.assertIs(getattr(kind(**{field: thing}), field), thing)
+                    self.assertEqual(list(vars(kind(thing))), [field])
+                with self.assertRaises(TypeError):
+                    kind()
+            with self.assertRaises(TypeError):
+                kind(other=1)
 
     def test_without_fields(self):
-        for kind in (NoText, NoDeed, NoRow):
-            self.assertEqual(vars(kind()), {})
+        for kind, field in KINDS:
+            if field is None:
+                self.assertEqual(vars(kind()), {})
 
     def test_caught_as_value_errors(self):
-        for error in (NoText(), NoDeed(), NoName("a"), NoNeed(None), NoRow()):
+        for kind, field in KINDS:
             with self.assertRaises(ValueError):
-                raise error
+                raise kind() if field is None else kind(1)

@@ -19,7 +19,7 @@ METHODS = """
 """.split()
 OUTSIDE = {"heapq": ("heappush", "heappop", "heapify"), "math": ("gcd", "lcm"),
            "itertools": ("product", "combinations", "permutations")}
-DOUBLES = ("__init__",)
+DOUBLES = ("__init__", "__eq__", "__len__")
 STATEMENTS = (
     ast.FunctionDef, ast.ClassDef, ast.Import, ast.ImportFrom, ast.Assign, ast.AugAssign, ast.If, ast.While, ast.For,
     ast.Return, ast.Break, ast.Continue, ast.Pass, ast.Raise, ast.Assert, ast.Delete, ast.Try, ast.Expr,
@@ -225,6 +225,10 @@ class Language(unittest.TestCase):
             "loose": "pieces played",
             "alls": "can_be within",
             "verdicts": "verdict",
+            "found": "find_claims",
+            "books": "Book",
+            "desks": "Desk",
+            "refusals": "NoWork NoLock NoStart NoRun NoMark Over",
         }
         for file, names in places.items():
             for name in names.split():
