@@ -3,6 +3,7 @@
 from cellvouch.cases import Case
 from cellvouch.fitting import brought, met, number_for, row_for
 from cellvouch.loops import Piece, deed_rows, names_set_within
+from cellvouch.machine import planned
 from cellvouch.meeting import Fails, cells_at, where_apart, where_one
 from cellvouch.models import Model, numbers_in
 from cellvouch.rows import FIELDS, all_rows
@@ -115,30 +116,18 @@ class Search:
         path = Path(case, worths, ())
         return [path] if piece.loop is None else where_met(path, piece.loop, piece.asked)
 
-    def do_rows(self, rows, first, paths):
-        """The paths behind these rows, which are numbered from first on."""
-        here = first
-        for row in rows:
-            out = []
-            for path in paths:
-                out.extend(self.do_row(row, here, path))
-            paths = out
-            here += len(all_rows((row,)))
-        return paths
-
-    def do_row(self, row, here, path):
-        """The paths behind a row."""
-        self.path = path
+    def next_paths(self, path, step):
+        """Pairs (path, number): the paths behind a row of the plan, and the rows to which they come."""
+        row, on, off = step
         if row[0] == "if":
-            rows = self.do_rows(row[4], here + 1, where_met(path, row, True))
-            others = where_met(path, row, False)
-            return rows + self.do_rows(row[5], here + 1 + len(all_rows(row[4])), others)
+            met_at = [(told, on) for told in where_met(path, row, True)]
+            return met_at + [(told, off) for told in where_met(path, row, False)]
         if row[0] == "while":
-            return self.leap_loop(row, path, list(path.worths))
+            return [(told, off) for told in self.leap_loop(row, path, list(path.worths))]
         if row[0] == "call":
-            return self.leap_call(row, path)
+            return [(told, on) for told in self.leap_call(row, path)]
         action = PLAIN[row[0]]
-        return action(path, row)
+        return [(told, on) for told in action(path, row)]
 
     def leap_loop(self, row, path, names):
         """The paths behind a loop whose claim ahead goes by these names."""
@@ -169,23 +158,30 @@ class Search:
                 out.append(told)
         return out
 
+    def end(self, path, own):
+        """Be at the end with a path; own are the worths of the names that the piece began with besides."""
+        worths = {name: path.worths[name] for name in self.piece.names_at_end()}
+        worths.update(own)
+        met(path.case, self.piece.behind, worths, True)
+
     def look(self):
-        """Go all paths of the piece to their ends."""
+        """Go all paths of the piece, one by one, to their ends."""
         piece = self.piece
+        behind = piece.first + len(all_rows(piece.rows))
+        plan = planned(piece.rows, piece.first, behind)
         paths = self.begin()
         own = {name: path.worths[name] for path in paths for name in piece.own}
-        paths = self.do_rows(piece.rows, piece.first, paths)
-        if piece.asked:
-            behind = []
-            for path in paths:
-                self.path = path
-                behind.extend(self.leap_loop(piece.loop, path, piece.known))
-            paths = behind
-        for path in paths:
-            self.path = path
-            worths = {name: path.worths[name] for name in piece.names_at_end()}
-            worths.update(own)
-            met(path.case, piece.behind, worths, True)
+        going = [(path, piece.first) for path in paths]
+        while going:
+            self.path, at = going.pop()
+            if at < behind:
+                going.extend(self.next_paths(self.path, plan[at - piece.first]))
+            elif at == behind and piece.asked:
+                # The loop itself comes behind its rows, and the end behind it.
+                leapt = self.leap_loop(piece.loop, self.path, piece.known)
+                going.extend([(path, behind + 1) for path in leapt])
+            else:
+                self.end(self.path, own)
 
     def told(self, case, avoided):
         """A loose run in this case: what it begins with, and its draws."""

@@ -331,8 +331,8 @@ class Limits(VerdictTest):
         rows = ["call a b c = h -", "get l a next", "get l b next", "get l c next", "call - = g a b c"]
         self.lets_by(written(rows * 3), make, drop)
         self.fails(("lacks", 14), written(rows * 2 + rows[:4] + ["call - = g a c b"]), make, drop)
-        self.fails(("end", None), written(rows * 2 + rows[:2] + ["get l l next"]), make, drop)
-        self.fails(("fault", 13), written(rows * 2 + rows[:2] + ["get l l next"] * 2), make, drop)
+        self.lets_by(written(rows * 2 + rows[:2] + ["get l l next", rows[4]]), make, drop)
+        self.fails(("fault", 13), written(rows * 2 + rows[:2] + ["get l l next"] * 2 + rows[4:]), make, drop)
 
 
 class Promise(VerdictTest):
