@@ -69,7 +69,6 @@ class Book:
         if not self.has(name):
             raise NoName(name)
         del self.kept[name]
-        self.found.pop(name, None)
         self.look_at_callers(name)
 
     def deed(self, name):

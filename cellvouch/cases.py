@@ -16,14 +16,13 @@ class Case:
         # Unknown numbers that are another number, and pairs of numbers that are apart.
         self.links = {}
         self.aparts = []
-        # Unknown rows that are a word; those that aren't empty; words that aren't empty as a whole.
+        # Unknown rows that are a word, and unknown rows that aren't empty.
         self.rows = {}
         self.full = {}
-        self.filled = []
         # All blocks that there ever were, and for each one those that were there at one time with it.
         self.blocks = []
         self.beside = []
-        # Blocks that have a cell for sure, and stretches of which nobody knows.
+        # Blocks that surely have a cell, and stretches of which it isn't known.
         self.held = {}
         self.unsure = {}
         # The blocks in the heap by now, a cell with its worth and next; and what stretches were taken apart into.
@@ -38,7 +37,6 @@ class Case:
         other.aparts = list(self.aparts)
         other.rows = dict(self.rows)
         other.full = dict(self.full)
-        other.filled = list(self.filled)
         other.blocks = list(self.blocks)
         other.beside = list(self.beside)
         other.held = dict(self.held)

@@ -2,7 +2,7 @@
 
 from cellvouch.claims import in_order, is_known
 from cellvouch.meeting import Fails, Way, cell_ways, left_of, must_be_apart, strolls, where_apart, where_one, word_in
-from cellvouch.settling import can_be_so, completed
+from cellvouch.settling import can_be_so
 from cellvouch.words import number_of, turned
 
 
@@ -34,11 +34,12 @@ def split_by_row(case, row):
 
 
 def split_by_words(case, one, other):
-    """Cases in which more is known of two words whose beginnings aren't alike."""
+    """Cases in which more is known of two words that don't begin alike; fails where they stand for two rows."""
     pieces = [word[0] for word in (one, other) if word]
     for kind, term in pieces:
         if kind != "one" and term not in case.full:
             return split_by_row(case, term)
+    # Each row that isn't empty may have two numbers or more that stand nowhere else.
     if [kind for kind, term in pieces if kind != "one"] or len(pieces) == 1:
         raise Fails(case)
     apart = where_apart(case, pieces[0][1], pieces[1][1])
@@ -53,14 +54,10 @@ def where_words_are_one(case, one, other):
     while going:
         told = going.pop()
         first, second = unlike_ends(told, one, other)
-        if not first and not second:
+        if first or second:
+            going.extend(split_by_words(told, first, second))
+        else:
             out.append(told)
-            continue
-        # Rows of which nothing is known are as unlike as they can be.
-        likely = completed(told)
-        if unlike_ends(likely, first, second) != ((), ()):
-            raise Fails(likely)
-        going.extend(split_by_words(told, first, second))
     return out
 
 

@@ -95,12 +95,13 @@ class Finding:
         """A dict from the addresses of made cells to names: a tell that holds one, else a name of its own."""
         names = {}
         for tell in tells:
-            names.setdefault(self.holds[tell], tell)
+            if isinstance(self.holds[tell], tuple):
+                names.setdefault(self.holds[tell], tell)
         for address in self.cells:
             for held in (address,) + self.cells[address]:
                 if isinstance(held, tuple) and held not in names:
                     names[held] = self.naming.fresh()
-        return {held: names[held] for held in names if isinstance(held, tuple)}
+        return names
 
     def claim_behind(self, tells):
         """The claim behind."""

@@ -144,14 +144,12 @@ def begun(deeds, piece, worths, heap, draws):
 
 def to_end(play, piece):
     """Do what a piece does, up to its end; told is how it fails, or None."""
-    own = {name: play.worths[name] for name in piece.own}
     told = play.do_rows(piece.rows, piece.first)
     if told is None and piece.asked:
         told = play.leap_loop(piece.loop, piece.first - 1, piece.known)
     if told is not None:
         return told
     worths = {name: play.worths[name] for name in piece.names_at_end()}
-    worths.update(own)
     return ("end", None) if is_wholly(piece.behind, heap_of(play.cells), worths) is None else None
 
 

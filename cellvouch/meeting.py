@@ -67,7 +67,6 @@ def split_off(case, block):
     others = list(case.beside[block])
     cell = case.add_block(("cell", x, word[0][1], after), others)
     case.live[cell] = (word[0][1], after)
-    case.inner[block] = (cell,)
     if len(word) > 1:
         rest = case.add_block(("row", after, y, word[1:]), others + [cell])
         case.live[rest] = ()
@@ -81,7 +80,7 @@ def first_cells(case, block):
         return [(case, block)]
     out = []
     word = case.word_at(block)
-    while word and word[0][0] != "one":
+    while word[0][0] != "one":
         kind, row = word[0]
         told = case.twin()
         rest = told.new_row()

@@ -158,10 +158,9 @@ class Search:
                 out.append(told)
         return out
 
-    def end(self, path, own):
-        """Be at the end with a path; own are the worths of the names that the piece began with besides."""
+    def end(self, path):
+        """Be at the end with a path."""
         worths = {name: path.worths[name] for name in self.piece.names_at_end()}
-        worths.update(own)
         met(path.case, self.piece.behind, worths, True)
 
     def look(self):
@@ -169,9 +168,7 @@ class Search:
         piece = self.piece
         behind = piece.first + len(all_rows(piece.rows))
         plan = planned(piece.rows, piece.first, behind)
-        paths = self.begin()
-        own = {name: path.worths[name] for path in paths for name in piece.own}
-        going = [(path, piece.first) for path in paths]
+        going = [(path, piece.first) for path in self.begin()]
         while going:
             self.path, at = going.pop()
             if at < behind:
@@ -181,7 +178,7 @@ class Search:
                 leapt = self.leap_loop(piece.loop, self.path, piece.known)
                 going.extend([(path, behind + 1) for path in leapt])
             else:
-                self.end(self.path, own)
+                self.end(self.path)
 
     def told(self, case, avoided):
         """A loose run in this case: what it begins with, and its draws."""

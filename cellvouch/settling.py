@@ -4,12 +4,23 @@ from cellvouch.cases import rows_in_word
 from cellvouch.words import is_whole
 
 
+def are_beside(case, block, others):
+    """Whether some of the others were there at one time with a block."""
+    beside = case.beside[block]
+    return bool([other for other in others if other in beside])
+
+
+def is_below(number):
+    """Whether no cell lies at this number."""
+    return is_whole(number) and number <= 0
+
+
 def held_at(case):
-    """The blocks that surely have a cell, by where they begin; None where two have the same one, or one begins at 0."""
+    """The blocks that surely have a cell, by where they begin; None where that can't be."""
     found = {}
     for block in case.held:
         at = case.root(case.blocks[block][1])
-        if is_whole(at) and at <= 0 and case.blocks[block][0] != "look":
+        if is_below(at) and case.blocks[block][0] != "look":
             return None
         others = found.setdefault(at, [])
         if are_beside(case, block, others):
@@ -18,55 +29,20 @@ def held_at(case):
     return found
 
 
-def are_beside(case, block, others):
-    """Whether some of the others were there at one time with a block."""
-    beside = case.beside[block]
-    return bool([other for other in others if other in beside])
+def are_apart(case):
+    """Whether all numbers that were noted to be apart aren't known to be one."""
+    return not [pair for pair in case.aparts if case.are_one(pair[0], pair[1])]
 
 
-def apart_roots(case):
-    """All pairs of numbers that were noted to be apart, both ways about; None where they are one."""
-    pairs = {}
-    for one, other in case.aparts:
-        first, second = case.root(one), case.root(other)
-        if first == second:
-            return None
-        pairs[first, second] = True
-        pairs[second, first] = True
-    return pairs
-
-
-def is_below(number):
-    """Whether no cell lies at this number."""
-    return is_whole(number) and number <= 0
-
-
-def has_cell(case, blocks):
-    """Whether one of these blocks is a cell or a stretch."""
-    return bool([block for block in blocks if case.blocks[block][0] != "look"])
-
-
-def are_apart(case, one, other, held, pairs):
-    """Whether two numbers, each told by its root, are known to be apart."""
-    if (is_whole(one) and is_whole(other)) or (one, other) in pairs:
-        return one != other
-    first, second = held.get(one, []), held.get(other, [])
-    if is_below(one) or is_below(other):
-        return has_cell(case, first) or has_cell(case, second)
-    return bool([block for block in first if are_beside(case, block, second)])
-
-
-def has_numbers(case, block, held, pairs):
+def has_cell(case, block, held):
     """Whether a stretch surely has a cell, or surely none; None where neither is known."""
-    x, y = case.root(case.blocks[block][1]), case.root(case.blocks[block][2])
     word = case.word_at(block)
-    if not word:
-        return False
     if case.is_filled(word):
         return True
-    if x == y or is_below(x) or are_beside(case, block, held.get(x, [])):
+    x, y = case.root(case.blocks[block][1]), case.root(case.blocks[block][2])
+    if not word or x == y or is_below(x) or are_beside(case, block, held.get(x, [])):
         return False
-    return True if are_apart(case, x, y, held, pairs) else None
+    return None
 
 
 def fill(case, block):
@@ -74,44 +50,21 @@ def fill(case, block):
     del case.unsure[block]
     case.held[block] = True
     case.part(case.blocks[block][1], case.blocks[block][2])
-    case.filled.append(case.blocks[block][3])
 
 
 def drain(case, block):
-    """Note that a stretch has no cell; False where it has one."""
+    """Note that a stretch has no cell; False where its ends are known to be two whole numbers."""
     del case.unsure[block]
-    word = case.word_at(block)
-    if case.is_filled(word):
-        return False
-    for row in rows_in_word(word):
+    for row in rows_in_word(case.word_at(block)):
         case.rows[row] = ()
     return case.unite(case.blocks[block][1], case.blocks[block][2])
 
 
-def fill_rows(case):
-    """Note which row it must be that fills a word; None where there is none, else whether anything was noted."""
-    left, noted = [], False
-    for noticed in case.filled:
-        word = case.word(noticed)
-        rows = rows_in_word(word)
-        if not word:
-            return None
-        if case.is_filled(word):
-            continue
-        if len(rows) == 1:
-            case.full[rows[0]] = True
-            noted = True
-        else:
-            left.append(word)
-    case.filled = left
-    return noted
-
-
-def decide(case, held, pairs):
+def decide(case, held):
     """Note which stretches have cells, where that is known; None where that can't be, else whether any was noted."""
     noted = False
     for block in list(case.unsure):
-        told = has_numbers(case, block, held, pairs)
+        told = has_cell(case, block, held)
         if told is None:
             continue
         noted = True
@@ -124,16 +77,13 @@ def decide(case, held, pairs):
 
 def settle(case):
     """Note all that follows at once; False where it is found that it can't be so."""
-    while True:
-        held, pairs = held_at(case), apart_roots(case)
-        if held is None or pairs is None:
+    noted = True
+    while noted:
+        held = held_at(case)
+        if held is None or not are_apart(case):
             return False
-        decided = decide(case, held, pairs)
-        filled = None if decided is None else fill_rows(case)
-        if filled is None:
-            return False
-        if not decided and not filled:
-            return True
+        noted = decide(case, held)
+    return noted is not None
 
 
 def rivals(case):
@@ -151,8 +101,8 @@ def rivals(case):
 def completed(case):
     """The settled case with so much known that all else can be as one likes; None where nothing can be so.
 
-    Where no two stretches are rivals, each of them may have cells, and each number that isn't known to be
-    another one may be one of its own.
+    Where no two stretches are rivals, each of them of which nothing is known may have cells, and each number
+    that isn't known to be another one may be one of its own.
     """
     pair = rivals(case)
     if pair is None:

@@ -99,6 +99,16 @@ row x 0 r ; cell x v n | same 1 2
 apart x x | cell 1 2 3
 row x 0 r ; row x 0 s ; apart x 0 | cell 1 2 3
 row x y p ; row x y q ; cell y v n | cell x v n ; same x y
+row x 0 =v ; same v w | row x 0 =w
+row x 0 r =v ~r ; same w v | row x 0 r =w ~r
+row x y p ; row x 0 r ; row y x q | row y x k ; row x y m ; row y 0 s
+row x y p ; row x 0 r ; row y x q | row y 0 ~s ; same x y
+row x 0 r ; row x y p ; row y x q | row x 0 r q ~p ; same y x
+row x 0 r ; row x y p ; row y x q ; cell z x 0 | row z 0 =y
+row x 0 r ; row x y p ; row y x q ; row z 0 p r q | row z 0 r
+row x y p ; cell y v 0 | row x 0 p =v
+row x y p ; row y z q ; cell z v n ; row n 0 r | row x n p q =v ; row n 0 r
+row x y p ; row y z q ; cell z v x | cell z v x ; row x y p ; row y z q
 row x 0 r ; row x 0 s | row x 0 r
 """
 
@@ -130,6 +140,16 @@ cell x v n | cell x v n ; cell x v n
 row x y p ; row y 0 q | cell x v n
 row x 0 p q ; row y 0 p q | row x 0 q p
 row x 0 =v r | row x 0 r =v
+row x 0 r ; row x y p ; row y x q | row x 0 ~r
+row x 0 r ; row x y p ; row y x q | same x 0
+row x 0 r ; row x y p ; row y x q ; row z 0 s | row x 0 r ; row z 0 r
+row x y a ; row y 0 b ; row x z c ; row z x d ; cell w x 0 | row w 0 =y
+row x y a ; row y 0 b ; row x z c ; row z x d | same x y
+row x y a ; row y 0 b ; row x z c ; row z x d | row x 0 b
+row x 0 r =v ~r ; apart w v | row x 0 r =w ~r
+row x 0 p =v ; row y 0 q =w | row x 0 p =v ; row y 0 q =v
+row x 0 p q ; row y 0 p | row x 0 p ; row y 0 p
+row x 0 p ; row y 0 p q | row x 0 p q ; row y 0 p q
 """
 
 
@@ -288,6 +308,9 @@ class Claims:
         """Parts that lead on, one to the next."""
         ends = [self.term() for _ in range(self.any.randint(1, 4))] + [self.any.choice([0, 0, "z"])]
         parts = []
+        if self.any.random() < 0.15:
+            parts = [("row", "x", "y", self.word()), ("row", "y", "x", self.word())]
+            ends[0] = self.any.choice("xy")
         for x, y in zip(ends, ends[1:]):
             parts.append(("cell", x, self.term(), y) if self.any.random() < 0.3 else ("row", x, y, self.word()))
         if ends[-1] == "z":

@@ -127,12 +127,15 @@ while x isn't y
         for name in worths:
             self.assertIsNone(play(self.text, (1, {other: worths[other] for other in worths if other != name},
                                                heap, [])))
+        # The row r and the local z stand in neither claim of the loop.
+        heap, worths["y"] = ((3, 9, 3),), 3
         bad = [{**worths, "r": thing} for thing in (7, [4], (True,), ("a",), (None,), ((1,),), "r", None)]
         bad.extend([{**worths, name: thing} for name in "xyz" for thing in ((), (1,), "a", None, False, [1])])
         bad.extend([{**worths, "v": 9}, {**worths, "n": 1}, {**worths, 1: 1}])
+        self.assertEqual(play(self.text, (1, worths, heap, [])), ("end", None))
+        self.assertEqual(play(self.text, (1, {**worths, "r": (), "z": -1}, heap, [])), ("end", None))
         for some in bad:
-            for piece in (1, 2):
-                self.assertIsNone(play(self.text, (piece, some, heap, [])), some)
+            self.assertIsNone(play(self.text, (1, some, heap, [])), some)
 
     def test_the_test_of_a_loop(self):
         worths = {"x": 3, "r": (), "y": 7, "z": 0}
@@ -382,6 +385,11 @@ class NoLooseRun(unittest.TestCase):
         rows = ["while 0 is 1", "  ahead none", "  behind same a 2", "  set a 1", "free 9"]
         self.assertEqual(play_rows(rows, [((), (2,))], **self.base), ("fault", 2))
         for numbers in ((3,), (True,), ("a",), (None,), ((2,),), (2, 2), ()):
+            self.assertIsNone(play_rows(rows, [((), numbers)], **self.base), numbers)
+        rows[2] = "  behind none"
+        for number in (2, 0, -7):
+            self.assertEqual(play_rows(rows, [((), (number,))], **self.base), ("fault", 2))
+        for numbers in ((True,), ("a",), (None,), ((2,),), ([],), [2], (2, 2), ()):
             self.assertIsNone(play_rows(rows, [((), numbers)], **self.base), numbers)
 
     def test_anything(self):
