@@ -142,6 +142,8 @@ row x 0 p q ; row y 0 p q | row x 0 q p
 row x 0 =v r | row x 0 r =v
 row x 0 r ; row x y p ; row y x q | row x 0 ~r
 row x 0 r ; row x y p ; row y x q | same x 0
+row x y p ; row x 0 r ; row y x q | row y x k ; row x y m ; row y 0 s ; same x 0
+row x y p ; row x 0 r ; row y x q | row y x k ; row x y m ; row y 0 s ; apart x 0
 row x 0 r ; row x y p ; row y x q ; row z 0 s | row x 0 r ; row z 0 r
 row x y a ; row y 0 b ; row x z c ; row z x d ; cell w x 0 | row w 0 =y
 row x y a ; row y 0 b ; row x z c ; row z x d | same x y
