@@ -168,17 +168,18 @@ class Search:
         piece = self.piece
         behind = piece.first + len(all_rows(piece.rows))
         plan = planned(piece.rows, piece.first, behind)
-        going = [(path, piece.first) for path in self.begin()]
+        going = [(told, piece.first) for told in self.begin()]
         while going:
-            self.path, at = going.pop()
+            path, at = going.pop()
+            self.path = path
             if at < behind:
-                going.extend(self.next_paths(self.path, plan[at - piece.first]))
+                going.extend(self.next_paths(path, plan[at - piece.first]))
             elif at == behind and piece.asked:
                 # The loop itself comes behind its rows, and the end behind it.
-                leapt = self.leap_loop(piece.loop, self.path, piece.known)
-                going.extend([(path, behind + 1) for path in leapt])
+                leapt = self.leap_loop(piece.loop, path, piece.known)
+                going.extend([(told, behind + 1) for told in leapt])
             else:
-                self.end(self.path)
+                self.end(path)
 
     def told(self, case, avoided):
         """A loose run in this case: what it begins with, and its draws."""
