@@ -1,22 +1,9 @@
 """The book of deeds (point 20 of the document)."""
 
-from cellvouch.deeds import is_deed
+from cellvouch.deeds import is_deed, names_called
 from cellvouch.errors import NoDeed, NoName
-from cellvouch.rows import all_rows
+from cellvouch.loose import own_copy
 from cellvouch.verdicts import looked_at
-
-
-def calls(deed, name):
-    """Whether a row of a deed calls one of this name."""
-    return name in [row[2] for row in all_rows(deed[5]) if row[0] == "call"]
-
-
-def copied(told):
-    """A verdict whose dict and list are the asker's own."""
-    if told is None or told[0] == "absent":
-        return told
-    number, worths, heap, draws = told[1]
-    return ("loose", (number, dict(worths), heap, list(draws)))
 
 
 class Book:
@@ -48,7 +35,7 @@ class Book:
     def look_at_callers(self, name):
         """Note that the deeds that call this one are looked at."""
         for caller in sorted(self.kept):
-            if calls(self.kept[caller], name):
+            if name in names_called(self.kept[caller]):
                 self.look(caller)
 
     def keep(self, deed):
@@ -83,7 +70,7 @@ class Book:
             raise NoName(name)
         if name not in self.found:
             self.found[name] = looked_at(self.kept, self.kept[name])
-        return copied(self.found[name])
+        return own_copy(self.found[name])
 
     def all_deeds(self):
         """A list of all deeds."""

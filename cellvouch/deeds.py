@@ -1,28 +1,31 @@
 """Deeds, their locals and their ghosts (points 8 and 9 of the document)."""
 
 from cellvouch.claims import claim_names, is_claim, lawful, row_names, term_names
-from cellvouch.rows import MOST_ROWS, all_rows, are_names, are_rows, in_slots, names_set, terms_read
+from cellvouch.rows import DEED_KINDS, all_rows, are_names, are_rows, calls_in, in_slots, names_set, terms_read
 from cellvouch.words import is_name, is_whole
 
-MOST_DEEP = 3
+# How many rows stand within one another at most: in deeds, and in works.
+DEED_DEEP = 3
+WORK_DEEP = 5
 MOST_FORKS = 4
 MOST_CALLS = 6
+MOST_HOLDS = 3
 
 
-def has_form(thing):
-    """Whether thing is built as a deed is, whatever its names stand for."""
+def has_form(thing, kinds, deep):
+    """Whether thing is built as a deed of such rows, so deep within one another, whatever its names stand for."""
     if not isinstance(thing, tuple) or len(thing) != 6:
         return False
     name, takes, tells, ahead, behind, rows = thing
     if not is_name(name) or not are_names(takes) or not are_names(tells):
         return False
-    return is_claim(ahead) and is_claim(behind) and are_rows(rows, MOST_DEEP)
+    return is_claim(ahead) and is_claim(behind) and are_rows(rows, kinds, deep)
 
 
 def keeps_limits(deed):
-    """Whether a deed has no more rows, ifs, loops and calls than it may."""
+    """Whether a deed, or a work, has no more ifs, loops, calls, boths and holds than it may."""
     kinds = [row[0] for row in all_rows(deed[5])]
-    if len(kinds) > MOST_ROWS or kinds.count("call") > MOST_CALLS:
+    if kinds.count("call") + kinds.count("both") > MOST_CALLS or kinds.count("hold") > MOST_HOLDS:
         return False
     return kinds.count("if") + kinds.count("while") <= MOST_FORKS
 
@@ -86,13 +89,18 @@ def are_loops_rooted(rows, known):
     return True
 
 
-def is_deed(thing):
-    """Whether thing, which may be anything, is a deed."""
-    if not has_form(thing) or not keeps_limits(thing):
+def is_made_of(thing, kinds, deep):
+    """Whether thing is a deed but that it is made of rows of these kinds, so deep within one another."""
+    if not has_form(thing, kinds, deep) or not keeps_limits(thing):
         return False
     if not keeps_names(thing) or not keeps_kinds(thing) or not is_rooted(thing):
         return False
     return are_loops_rooted(thing[5], list(thing[1]) + ghosts_of(thing) + locals_of(thing))
+
+
+def is_deed(thing):
+    """Whether thing, which may be anything, is a deed."""
+    return is_made_of(thing, DEED_KINDS, DEED_DEEP)
 
 
 def locals_of(deed):
@@ -113,14 +121,22 @@ def rows_of(deed):
     return len(all_rows(deed[5]))
 
 
+def names_called(deed):
+    """The names that a deed's calls and boths name, as its rows are numbered."""
+    names = []
+    for row in all_rows(deed[5]):
+        names.extend([call[1] for call in calls_in(row)])
+    return names
+
+
 def by_name(deeds):
     """A dict from the names of deeds to the deeds."""
     return {deed[0]: deed for deed in deeds}
 
 
 def is_there(deeds, call):
-    """Whether a call's deed is in such a dict, and takes and tells as many."""
-    outs, name, terms = call[1:]
+    """Whether what is called by a triple (outs, name, terms) is in such a dict, and takes and tells as many."""
+    outs, name, terms = call
     if name not in deeds:
         return False
     takes, tells = deeds[name][1:3]

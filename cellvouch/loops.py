@@ -46,15 +46,18 @@ class Piece:
     """A piece of a deed: what it begins with, its claims, and what it does.
 
     known are the names that it begins with, own those that its claim ahead tells and its claim behind goes by;
-    asked is whether the test of the loop is to hold, None for the deed itself; rows are numbered from first on.
+    tells are the locals whose numbers come in behind it where it is leapt over; asked is whether the test of the
+    loop is to hold, None for the deed itself; rows are numbered from first on.
     """
 
     def __init__(self, deed, number):
         self.deed = deed
+        self.number = number
         self.loop = None
         self.asked = None
         self.known = list(deed[1])
         self.own = ghosts_of(deed)
+        self.tells = list(deed[2])
         self.ahead, self.behind, self.rows = deed[3:6]
         self.first = 0
         if number > 0:
@@ -68,6 +71,7 @@ class Piece:
             known = with_ghosts(outer[4], known)
         self.loop, self.known, self.asked = loop, known, asked
         self.own = with_ghosts(loop[4], known)[len(known):]
+        self.tells = names_set_within(loop)
         self.ahead, self.behind = loop[4:6]
         self.rows = loop[6] if asked else ()
         self.first = here + 1
@@ -78,4 +82,4 @@ class Piece:
 
     def names_at_end(self):
         """The names by which the claim behind is lawful."""
-        return self.known + self.own + (list(self.deed[2]) if self.loop is None else [])
+        return self.known + self.own + (self.tells if self.loop is None else [])

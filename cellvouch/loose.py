@@ -1,10 +1,10 @@
-"""Loose runs of the pieces of a deed, played (points 13 to 16 of the document)."""
+"""Loose runs of the pieces of a deed, or of a work, played (points 13 to 16 and 31 of the document)."""
 
 from cellvouch.deeds import by_name, is_there
 from cellvouch.heaps import cells_of, heap_of, is_heap, walked
 from cellvouch.loops import Piece, deed_rows, loops_of, names_set_within
 from cellvouch.machine import PLAIN, is_met, make_cell
-from cellvouch.rows import all_rows
+from cellvouch.rows import all_rows, calls_in
 from cellvouch.words import is_whole, number_of
 
 # What is told in here of a thing that is no loose run.
@@ -30,8 +30,9 @@ def is_wholly(claim, heap, worths):
 class Play:
     """A loose run that is played: its worths, its cells, and the draws that are left."""
 
-    def __init__(self, deeds, worths, heap, draws):
+    def __init__(self, deeds, locks, worths, heap, draws):
         self.deeds = deeds
+        self.locks = locks
         self.worths = worths
         self.cells = cells_of(heap)
         self.draws = list(draws)
@@ -58,8 +59,10 @@ class Play:
             return self.do_rows(row[5], here + 1 + len(all_rows(row[4])))
         if row[0] == "while":
             return self.leap_loop(row, here, list(self.worths))
-        if row[0] == "call":
-            return self.leap_call(row, here)
+        if row[0] == "hold":
+            return self.leap_hold(row, here)
+        if row[0] in ("call", "both"):
+            return self.leap_calls(calls_in(row), here)
         if row[0] == "new":
             return self.make(row)
         action = PLAIN[row[0]]
@@ -80,16 +83,34 @@ class Play:
             return ("lacks", here)
         return self.come_in(row[5], told, names_set_within(row), names_set_within(row))
 
-    def leap_call(self, row, here):
-        """Leap over a call."""
-        if not is_there(self.deeds, row):
+    def leap_hold(self, row, here):
+        """Leap over the beginning of a hold, do its rows, leap over its end."""
+        _, lock, rows = row
+        if lock not in self.locks:
             return NO_RUN
-        outs, name, terms = row[1:]
-        takes, tells, ahead, behind = self.deeds[name][1:5]
-        told = self.go_out(ahead, {take: number_of(term, self.worths) for take, term in zip(takes, terms)})
+        told = self.come_in(self.locks[lock], {}, (), ())
         if told is None:
+            told = self.do_rows(rows, here + 1)
+        if told is None and self.go_out(self.locks[lock], {}) is None:
             return ("lacks", here)
-        return self.come_in(behind, told, tells, outs)
+        return told
+
+    def leap_calls(self, calls, here):
+        """Leap over what a call, or a both, calls: all that goes out goes ahead of all that comes in."""
+        if [call for call in calls if not is_there(self.deeds, call)]:
+            return NO_RUN
+        known = []
+        for _, name, terms in calls:
+            takes, ahead = self.deeds[name][1], self.deeds[name][3]
+            told = self.go_out(ahead, {take: number_of(term, self.worths) for take, term in zip(takes, terms)})
+            if told is None:
+                return ("lacks", here)
+            known.append(told)
+        for (outs, name, _), worths in zip(calls, known):
+            told = self.come_in(self.deeds[name][4], worths, self.deeds[name][2], outs)
+            if told is not None:
+                return told
+        return None
 
     def go_out(self, ahead, worths):
         """Take out the part that is a claim ahead; told are the worths of its names, or None where there is none."""
@@ -129,7 +150,7 @@ def are_worths(thing, piece):
     return True
 
 
-def begun(deeds, piece, worths, heap, draws):
+def begun(deeds, locks, piece, worths, heap, draws):
     """The play of a piece that begins with these; None where it can't begin so."""
     if not are_worths(worths, piece) or not is_heap(heap) or not isinstance(draws, list):
         return None
@@ -139,7 +160,7 @@ def begun(deeds, piece, worths, heap, draws):
     if piece.loop is not None and is_met(piece.loop, told) != piece.asked:
         return None
     told.update(piece.locals_at_first())
-    return Play(deeds, told, heap, draws)
+    return Play(deeds, locks, told, heap, draws)
 
 
 def to_end(play, piece):
@@ -153,16 +174,29 @@ def to_end(play, piece):
     return ("end", None) if is_wholly(piece.behind, heap_of(play.cells), worths) is None else None
 
 
-def played(deeds, name, told):
-    """How a told loose run fails; None where it is none, or doesn't fail."""
+def play_told(deeds, locks, name, told):
+    """How a told loose run fails; NO_RUN where it is none, None where it doesn't fail."""
     number, worths, heap, draws = told
-    deeds = by_name(deeds)
     deed = deeds[name]
     if not is_whole(number) or not 0 <= number < pieces(deed):
-        return None
+        return NO_RUN
     piece = Piece(deed, number)
-    play = begun(deeds, piece, worths, heap, draws)
+    play = begun(deeds, locks, piece, worths, heap, draws)
     if play is None:
-        return None
+        return NO_RUN
     ends = to_end(play, piece)
-    return None if play.draws or ends == NO_RUN else ends
+    return NO_RUN if play.draws else ends
+
+
+def own_copy(told):
+    """A verdict, or an outcome, whose dict and list are the asker's own."""
+    if told is None or told[0] not in ("loose", "blame"):
+        return told
+    number, worths, heap, draws = told[-1]
+    return told[:-1] + ((number, dict(worths), heap, list(draws)),)
+
+
+def played(deeds, name, told):
+    """How a told loose run fails; None where it is none, or doesn't fail."""
+    ends = play_told(by_name(deeds), {}, name, told)
+    return None if ends == NO_RUN else ends

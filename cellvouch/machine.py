@@ -10,8 +10,13 @@ from cellvouch.words import number_of
 MOST_CALLED = 59
 
 
+def end_of_hold(here):
+    """The number, below 0, for the end of a hold that is the row with this number; and back."""
+    return -1 - here
+
+
 def planned(rows, first, after):
-    """Triples (row, on, off): where it goes on, where the test doesn't hold; rows from first on."""
+    """Triples (row, on, off): where it goes on, where the test doesn't hold or the hold has ended; from first on."""
     out = []
     for k, row in enumerate(rows):
         here = first + len(out)
@@ -23,6 +28,9 @@ def planned(rows, first, after):
         elif row[0] == "while":
             out.append((row, here + 1 if row[6] else here, behind))
             out.extend(planned(row[6], here + 1, here))
+        elif row[0] == "hold":
+            out.append((row, here + 1 if row[2] else end_of_hold(here), behind))
+            out.extend(planned(row[2], here + 1, end_of_hold(here)))
         else:
             out.append((row, behind, behind))
     return out
@@ -74,6 +82,19 @@ def make_cell(row, worths, cells, address):
     worths[row[1]] = address
 
 
+def do_plain(row, worths, cells, room):
+    """Do a row that is neither a test nor a leap; False where it faults."""
+    if row[0] == "new":
+        make_cell(row, worths, cells, room.next_place(cells))
+        return True
+    action = PLAIN[row[0]]
+    if not action(row, worths, cells):
+        return False
+    if row[0] == "free":
+        room.give_back(number_of(row[1], worths))
+    return True
+
+
 class Frame:
     """A deed that is under way: its plan, the number of the row it has come to, its worths."""
 
@@ -91,6 +112,14 @@ class Frame:
     def told(self):
         """The numbers that the deed tells."""
         return tuple([self.worths[name] for name in self.deed[2]])
+
+    def place(self):
+        """The deed, and the number of the row to which it has come."""
+        return (self.deed[0], self.at)
+
+    def sets(self, names, numbers):
+        """Set locals to the numbers that a called deed told."""
+        self.worths.update({name: number for name, number in zip(names, numbers)})
 
     def goes_on(self):
         """Go to the row behind the one that was done."""
@@ -148,15 +177,14 @@ class Machine:
         if not self.frames:
             return ("ends", numbers, heap_of(self.cells))
         frame = self.frames[-1]
-        call = frame.plan[frame.at][0]
-        frame.worths.update({out: number for out, number in zip(call[1], numbers)})
+        frame.sets(frame.plan[frame.at][0][1], numbers)
         frame.goes_on()
         return None
 
     def call(self, row, frame):
         """Come to a call; what is told where it isn't done."""
         name = row[2]
-        if not is_there(self.deeds, row):
+        if not is_there(self.deeds, row[1:]):
             return ("absent", name)
         if len(self.frames) > MOST_CALLED:
             return ("deep",)
@@ -165,14 +193,8 @@ class Machine:
 
     def plain(self, row, frame):
         """Do a row that is neither a test nor a call; what is told where it faults."""
-        if row[0] == "new":
-            make_cell(row, frame.worths, self.cells, self.room.next_place(self.cells))
-        else:
-            action = PLAIN[row[0]]
-            if not action(row, frame.worths, self.cells):
-                return ("fault", frame.deed[0], frame.at)
-            if row[0] == "free":
-                self.room.give_back(number_of(row[1], frame.worths))
+        if not do_plain(row, frame.worths, self.cells, self.room):
+            return ("fault",) + frame.place()
         frame.goes_on()
         return None
 

@@ -3,10 +3,11 @@
 from cellvouch.cases import Case
 from cellvouch.fitting import brought, met, number_for, row_for
 from cellvouch.loops import Piece, deed_rows, names_set_within
-from cellvouch.machine import planned
+from cellvouch.machine import end_of_hold, planned
 from cellvouch.meeting import Fails, cells_at, where_apart, where_one
 from cellvouch.models import Model, numbers_in
-from cellvouch.rows import FIELDS, all_rows
+from cellvouch.needs import Needs
+from cellvouch.rows import FIELDS, all_rows, calls_in
 from cellvouch.words import number_of
 
 
@@ -89,13 +90,44 @@ def where_met(path, row, holds):
     return [] if case is None else [path.with_case(case)]
 
 
-class Search:
-    """A look for a loose run of a piece that fails; Fails is raised at the first one, path is the way to it."""
+def gone_out(path, claim, known):
+    """Pairs (path, worths) where a claim has gone out, by these worths, and those of all its names."""
+    out = []
+    for way in met(path.case, claim, known, False):
+        told = path.with_case(way.case.twin())
+        told.case.take_out(way.taken)
+        out.append((told, dict(way.worths)))
+    return out
 
-    def __init__(self, deeds, piece):
+
+def came_in(path, claim, known, names):
+    """The paths, at most one, where a claim has come in; names are pairs of names of it and outs of ours.
+
+    Changes the path.
+    """
+    theirs, ours = names
+    numbers = [path.case.new_number() for _ in theirs]
+    worths = dict(known)
+    worths.update({name: number for name, number in zip(theirs, numbers)})
+    blocks = brought(path.case, claim, worths)
+    if blocks is None:
+        return []
+    path.worths.update({name: number for name, number in zip(ours, numbers)})
+    path.drawn((blocks, numbers))
+    return [path]
+
+
+class Search:
+    """A look for a loose run of a piece that fails; Fails is raised at the first one, latest is the path to it."""
+
+    def __init__(self, deeds, locks, piece):
         self.deeds = deeds
+        self.locks = locks
         self.piece = piece
-        self.path = None
+        self.behind = piece.first + len(all_rows(piece.rows))
+        self.plan = planned(piece.rows, piece.first, self.behind)
+        self.needs = Needs(piece, self.plan, self.behind)
+        self.latest = None
         self.blocks = None
         self.started = {}
 
@@ -124,39 +156,60 @@ class Search:
             return met_at + [(told, off) for told in where_met(path, row, False)]
         if row[0] == "while":
             return [(told, off) for told in self.leap_loop(row, path, list(path.worths))]
-        if row[0] == "call":
-            return [(told, on) for told in self.leap_call(row, path)]
+        if row[0] == "hold":
+            return [(told, on) for told in came_in(path, self.locks[row[1]], {}, ((), ()))]
+        if row[0] in ("call", "both"):
+            return [(told, on) for told in self.leap_calls(path, calls_in(row))]
+        if row[0] == "get" and row[1] not in self.needs.needed(on):
+            # Nobody reads the number: all there is to it is that the cell is there, in each way in which it can be.
+            touched(path, row[2])
+            return [(path, on)]
         action = PLAIN[row[0]]
         return [(told, on) for told in action(path, row)]
+
+    def step_at(self, here):
+        """The row with this number, and where it leads."""
+        return self.plan[here - self.piece.first]
+
+    def behind_hold(self, path, step):
+        """Pairs (path, number): the paths behind a hold that has come to its end, and the row to which they come."""
+        row, _, off = step
+        return [(told, off) for told, _ in gone_out(path, self.locks[row[1]], {})]
 
     def leap_loop(self, row, path, names):
         """The paths behind a loop whose claim ahead goes by these names."""
         known = {name: path.worths[name] for name in names}
         outs = names_set_within(row)
-        return self.leap(path, row[4:6], known, outs, outs)
-
-    def leap_call(self, row, path):
-        """The paths behind a call."""
-        outs, name, terms = row[1:]
-        takes, tells, ahead, behind = self.deeds[name][1:5]
-        known = {take: number_of(term, path.worths) for take, term in zip(takes, terms)}
-        return self.leap(path, (ahead, behind), known, tells, outs)
-
-    def leap(self, path, claims, known, names, outs):
-        """The paths where a claim ahead goes out and a claim behind comes in; names of it are outs of ours."""
         out = []
-        for way in met(path.case, claims[0], known, False):
-            told = path.with_case(way.case.twin())
-            told.case.take_out(way.taken)
-            numbers = [told.case.new_number() for _ in names]
-            worths = dict(way.worths)
-            worths.update({name: number for name, number in zip(names, numbers)})
-            blocks = brought(told.case, claims[1], worths)
-            if blocks is not None:
-                told.worths.update({name: number for name, number in zip(outs, numbers)})
-                told.drawn((blocks, numbers))
-                out.append(told)
+        for told, worths in gone_out(path, row[4], known):
+            out.extend(came_in(told, row[5], worths, (outs, outs)))
         return out
+
+    def leap_calls(self, path, calls):
+        """The paths behind a call or a both: all that goes out goes ahead of all that comes in."""
+        going = [(path, ())]
+        for _, name, terms in calls:
+            takes, ahead = self.deeds[name][1], self.deeds[name][3]
+            gone = []
+            for told, known in going:
+                worths = {take: number_of(term, path.worths) for take, term in zip(takes, terms)}
+                gone.extend([(more, known + (inner,)) for more, inner in gone_out(told, ahead, worths)])
+            going = gone
+        out = []
+        for told, known in going:
+            out.extend(self.come_back(told, calls, known))
+        return out
+
+    def come_back(self, path, calls, known):
+        """The paths, at most one, where all that was called has come in."""
+        paths = [path]
+        for (outs, name, _), worths in zip(calls, known):
+            tells, behind = self.deeds[name][2], self.deeds[name][4]
+            come = []
+            for told in paths:
+                come.extend(came_in(told, behind, worths, (tells, outs)))
+            paths = come
+        return paths
 
     def end(self, path):
         """Be at the end with a path."""
@@ -165,15 +218,15 @@ class Search:
 
     def look(self):
         """Go all paths of the piece, one by one, to their ends."""
-        piece = self.piece
-        behind = piece.first + len(all_rows(piece.rows))
-        plan = planned(piece.rows, piece.first, behind)
+        piece, behind = self.piece, self.behind
         going = [(told, piece.first) for told in self.begin()]
         while going:
             path, at = going.pop()
-            self.path = path
-            if at < behind:
-                going.extend(self.next_paths(path, plan[at - piece.first]))
+            self.latest = path
+            if at < 0:
+                going.extend(self.behind_hold(path, self.step_at(end_of_hold(at))))
+            elif at < behind:
+                going.extend(self.next_paths(path, self.step_at(at)))
             elif at == behind and piece.asked:
                 # The loop itself comes behind its rows, and the end behind it.
                 leapt = self.leap_loop(piece.loop, path, piece.known)
@@ -185,7 +238,7 @@ class Search:
         """A loose run in this case: what it begins with, and its draws."""
         model = Model(case, avoided)
         draws = []
-        for draw in self.path.draws:
+        for draw in self.latest.draws:
             if isinstance(draw, tuple):
                 blocks, numbers = draw
                 draws.append((model.as_heap(blocks), tuple([model.as_number(number) for number in numbers])))
@@ -194,11 +247,12 @@ class Search:
         return model.as_worths(self.started), model.as_heap(self.blocks), draws
 
 
-def failing(deeds, deed, number):
+def failing(deeds, locks, deed, number):
     """A loose run of a piece that fails, as it is told; None where there is none."""
-    search = Search(deeds, Piece(deed, number))
+    search = Search(deeds, locks, Piece(deed, number))
     try:
         search.look()
     except Fails as found:
-        return (number,) + search.told(found.case, numbers_in(tuple(deeds.values())))
+        avoided = numbers_in(tuple(deeds.values()) + tuple(locks.values()))
+        return (number,) + search.told(found.case, avoided)
     return None

@@ -1,4 +1,4 @@
-"""The rows of deeds: of what each kind is built (point 8 of the document)."""
+"""The rows of deeds and works: of what each kind is built (points 8 and 22 of the document)."""
 
 from cellvouch.claims import is_claim
 from cellvouch.words import is_name, is_term
@@ -20,7 +20,11 @@ FORMS = {
     "if": ("term", "test", "term", "rows", "rows"),
     "while": ("term", "test", "term", "claim", "claim", "rows"),
     "call": ("outs", "name", "terms"),
+    "both": ("outs", "name", "terms", "outs", "name", "terms"),
+    "hold": ("name", "rows"),
 }
+DEED_KINDS = ("set", "new", "free", "get", "put", "if", "while", "call")
+WORK_KINDS = ("set", "new", "free", "get", "put", "if", "while", "call", "both", "hold")
 
 
 def are_names(thing):
@@ -37,10 +41,10 @@ def are_terms(thing):
     return all([is_term(term) for term in thing])
 
 
-def fits(slot, thing, room):
-    """Whether thing may stand in such a place of a row."""
+def fits(slot, thing):
+    """Whether thing may stand in such a place of a row; rows are looked at one by one elsewhere."""
     if slot == "rows":
-        return are_rows(thing, room)
+        return isinstance(thing, tuple)
     if slot == "term":
         return is_term(thing)
     if slot == "terms":
@@ -56,23 +60,37 @@ def fits(slot, thing, room):
     return is_name(thing)
 
 
-def is_row(thing, room):
-    """Whether thing is a row: with those in it, at most room rows within one another."""
+def is_row(thing, kinds):
+    """Whether thing is a row of one of these kinds, whatever rows are in it."""
     if not isinstance(thing, tuple) or not thing or not isinstance(thing[0], str):
         return False
-    if room == 0 or thing[0] not in FORMS:
+    if thing[0] not in kinds:
         return False
     form = FORMS[thing[0]]
     if len(thing) != len(form) + 1:
         return False
-    return all([fits(slot, part, room - 1) for slot, part in zip(form, thing[1:])])
-
-
-def are_rows(thing, room):
-    """Whether thing is a tuple of rows, at most room of them within one another."""
-    if not isinstance(thing, tuple) or len(thing) > MOST_ROWS:
+    if not all([fits(slot, part) for slot, part in zip(form, thing[1:])]):
         return False
-    return all([is_row(row, room) for row in thing])
+    outs = names_set(thing)
+    return len(set(outs)) == len(outs)
+
+
+def are_rows(thing, kinds, room):
+    """Whether thing is a tuple of few enough rows of these kinds, at most room of them within one another."""
+    going, many = [(thing, room)], 0
+    while going:
+        rows, left = going.pop()
+        if not isinstance(rows, tuple):
+            return False
+        # Counted on the way: rows of which each has the same rows in it soon are more than can be gone through.
+        many += len(rows)
+        if many > MOST_ROWS or (rows and left == 0):
+            return False
+        for row in rows:
+            if not is_row(row, kinds):
+                return False
+            going.extend([(inner, left - 1) for inner in in_slots(row, "rows")])
+    return True
 
 
 def in_slots(row, slot):
@@ -107,3 +125,10 @@ def names_set(row):
 def terms_read(row):
     """The terms that a row itself reads."""
     return together(row, "term", "terms")
+
+
+def calls_in(row):
+    """Triples (outs, name, terms) of what a row itself calls: one for a call, two for a both."""
+    if row[0] == "call":
+        return [row[1:]]
+    return [row[1:4], row[4:7]] if row[0] == "both" else []

@@ -1,8 +1,9 @@
-"""Claims and deeds written as texts, and read back (points 10 and 11 of the document)."""
+"""Claims, deeds and works written as texts, and read back (points 10, 11 and 24 of the document)."""
 
 from cellvouch.claims import is_claim
-from cellvouch.deeds import MOST_DEEP, is_deed
+from cellvouch.deeds import WORK_DEEP, is_deed
 from cellvouch.errors import NoText
+from cellvouch.rows import calls_in
 from cellvouch.words import MOST_FIGURES
 
 MARKS = {"one": "=", "row": "", "back": "~"}
@@ -32,10 +33,10 @@ def show_test(row):
     return show_words(row[:4])
 
 
-def show_call(row):
-    """The line of a call."""
-    outs, name, terms = row[1:]
-    return f"call {show_words(outs)} = {name} {show_words(terms)}"
+def show_calls(row):
+    """The line of a call or a both."""
+    texts = [f"{show_words(outs)} = {name} {show_words(terms)}" for outs, name, terms in calls_in(row)]
+    return f"{row[0]} " + " ; ".join(texts)
 
 
 def further_in(lines):
@@ -49,7 +50,9 @@ def show_row(row):
         return [show_test(row)] + further_in(show_rows(row[4])) + ["else"] + further_in(show_rows(row[5]))
     if row[0] == "while":
         return [show_test(row)] + further_in(show_claims(row[4:6]) + show_rows(row[6]))
-    return [show_call(row) if row[0] == "call" else show_words(row)]
+    if row[0] == "hold":
+        return [show_words(row[:2])] + further_in(show_rows(row[2]))
+    return [show_calls(row) if calls_in(row) else show_words(row)]
 
 
 def show_rows(rows):
@@ -66,7 +69,7 @@ def show_claims(claims):
 
 
 def show_deed(deed):
-    """The text of a deed."""
+    """The text of a deed, or of a work."""
     name, takes, tells = deed[:3]
     head = f"deed {name} takes {show_words(takes)} ; tells {show_words(tells)}"
     return "\n".join([head] + show_claims(deed[3:5]) + show_rows(deed[5]))
@@ -125,15 +128,15 @@ def read_claim(text):
     return claim
 
 
-def call_from(line):
-    """The call that a line writes."""
-    outs, _, done = line.partition(" = ")
+def call_from(text):
+    """The outs, the name and the terms that a text writes."""
+    outs, _, done = text.partition(" = ")
     name, _, terms = done.partition(" ")
-    return ("call", read_words(outs.split(" ")[1:]), name, read_words(terms.split(" ")))
+    return (read_words(outs.split(" ")), name, read_words(terms.split(" ")))
 
 
 class Lines:
-    """The lines of a deed's text, taken one behind the other."""
+    """The lines of the text of a deed or a work, taken one behind the other."""
 
     def __init__(self, text):
         self.lines = text.split("\n")
@@ -161,8 +164,8 @@ class Lines:
     def next_rows(self, deep):
         """The rows that stand so deep."""
         rows = []
-        # No deed has rows so far in, and a text may go in without end.
-        while deep <= MOST_DEEP and self.goes_on(deep):
+        # No work has rows so far in, and a text may go in without end.
+        while deep <= WORK_DEEP and self.goes_on(deep):
             line = self.next_line(deep)
             if line != "pass":
                 rows.append(self.row_from(line, deep))
@@ -172,7 +175,12 @@ class Lines:
         """The row that begins with this line."""
         kind, _, rest = line.partition(" ")
         if kind == "call":
-            return call_from(line)
+            return (kind,) + call_from(rest)
+        if kind == "both":
+            left, _, right = rest.partition(" ; ")
+            return (kind,) + call_from(left) + call_from(right)
+        if kind == "hold":
+            return (kind, rest, self.next_rows(deep + 1))
         row = (kind,) + read_words(rest.split(" "))
         if kind == "if":
             rows = self.next_rows(deep + 1)
@@ -185,7 +193,7 @@ class Lines:
         return row
 
     def whole(self):
-        """The deed that all lines write."""
+        """The deed, or the work, that all lines write."""
         head, _, tells = self.next_line(0).partition(" ; ")
         words = head.split(" ")
         name = words[1] if len(words) > 1 else ""

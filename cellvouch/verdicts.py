@@ -3,14 +3,24 @@
 from cellvouch.deeds import by_name, is_there
 from cellvouch.loose import pieces
 from cellvouch.paths import failing
-from cellvouch.rows import all_rows
+from cellvouch.rows import all_rows, calls_in
 
 
 def first_absent(deeds, deed):
     """The first name, by its rows, that a deed calls and that isn't there; or None."""
     for row in all_rows(deed[5]):
-        if row[0] == "call" and not is_there(deeds, row):
-            return row[2]
+        for call in calls_in(row):
+            if not is_there(deeds, call):
+                return call[1]
+    return None
+
+
+def first_failing(deeds, locks, deed):
+    """The verdict of a deed by its loose runs alone: None, or one that fails."""
+    for number in range(pieces(deed)):
+        told = failing(deeds, locks, deed, number)
+        if told is not None:
+            return ("loose", told)
     return None
 
 
@@ -19,11 +29,7 @@ def looked_at(deeds, deed):
     name = first_absent(deeds, deed)
     if name is not None:
         return ("absent", name)
-    for number in range(pieces(deed)):
-        told = failing(deeds, deed, number)
-        if told is not None:
-            return ("loose", told)
-    return None
+    return first_failing(deeds, {}, deed)
 
 
 def verdict(deeds, name):

@@ -1,6 +1,7 @@
-"""Deeds that are bent somewhere by chance, and are still deeds."""
+"""Deeds, works and locks that are bent somewhere by chance, and are still such."""
 
 from cellvouch.deeds import is_deed
+from cellvouch.works import are_locks, is_work
 
 KINDS = (("worth", "next"), ("row", "back", "one"), ("is", "isn't"), ("same", "apart"))
 
@@ -54,13 +55,31 @@ def bent_thing(any_of, thing, names):
     return any_of.choice(names + [0, 1, 2])
 
 
-def bent(any_of, some):
+def bent(any_of, some, is_right=is_deed):
     """A deed of the same name that is bent in one place."""
     places = [at for at in places_in(some) if at != (0,)]
     names = short_names(some[1:])
     for _ in range(60):
         at = any_of.choice(places)
         made = with_thing(some, at, bent_thing(any_of, thing_at(some, at), names))
-        if made != some and is_deed(made):
+        if made != some and is_right(made):
             return made
     return some
+
+
+def bent_work(any_of, some):
+    """A work of the same name that is bent in one place."""
+    return bent(any_of, some, is_work)
+
+
+def bent_locks(any_of, locks):
+    """Locks of the same names of which one claim is bent in one place."""
+    for _ in range(60):
+        k = any_of.randrange(len(locks))
+        name, claim = locks[k]
+        at = any_of.choice(places_in(claim))
+        made = with_thing(claim, at, bent_thing(any_of, thing_at(claim, at), short_names(claim)))
+        other = locks[:k] + [(name, made)] + locks[k + 1:]
+        if made != claim and are_locks(other):
+            return other
+    return locks

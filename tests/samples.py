@@ -55,6 +55,14 @@ def fork(*rows, others=(), test=(0, "is", 1)):
     return ("if",) + test + (tuple(rows), tuple(others))
 
 
+def hold(lock, *rows):
+    return ("hold", lock, tuple(rows))
+
+
+def both(outs, name, terms, other_outs=(), other="f", other_terms=()):
+    return ("both", outs, name, terms, other_outs, other, other_terms)
+
+
 REVERSE = deed(
     "rev", ("x",), ("y",), claim(stretch("x", 0, row("r"))), claim(stretch("y", 0, back("r"))),
     (
@@ -114,6 +122,10 @@ while 0 is 1
     set f f
   else
     pass"""
+
+
+# How many each of the works that a maker makes takes and tells.
+ARITIES = {"f": (1, 1), "g": (0, 0), "h": (2, 1)}
 
 
 class Maker:
@@ -176,6 +188,48 @@ class Maker:
         tells = tuple(self.any.sample(self.own, self.any.randint(0, 2)))
         made = self.rows() + (("set", "l", 0), ("set", "m", "l"), ("set", "n", "m"))
         return deed(name, self.takes, tells, rows=made)
+
+    def work_rows(self, deep=1):
+        """Rows of a work, at most so many within one another as may be."""
+        made = []
+        for _ in range(self.any.randint(0 if deep > 1 else 2, 4)):
+            if self.left:
+                self.left -= 1
+                made.append(self.work_row(deep))
+        return tuple(made)
+
+    def work_row(self, deep):
+        draw = self.any.random()
+        if deep < 5 and self.forks and draw < 0.2:
+            self.forks -= 1
+            if draw < 0.12:
+                return fork(*self.work_rows(deep + 1), others=self.work_rows(deep + 1), test=self.test())
+            return loop(*self.work_rows(deep + 1), test=self.any.choice([(0, "is", 1), self.test()]))
+        if deep < 5 and self.holds and draw < 0.35:
+            self.holds -= 1
+            return hold(self.any.choice(["k", "m", "o"]), *self.work_rows(deep + 1))
+        if self.calls and 0.35 < draw < 0.65:
+            self.calls -= 1
+            return self.call_of(self.left % 3)
+        return self.plain()
+
+    def call_of(self, kind):
+        """A call, or more often a both, of what is there; seldom of what isn't."""
+        sides, free = [], list(self.own)
+        for _ in range(2):
+            name = self.any.choice("fgh")
+            takes, tells = ARITIES[name]
+            outs = tuple(self.any.sample(free, tells))
+            free = [one for one in free if one not in outs]
+            sides.append((outs, name, tuple([self.term() for _ in range(takes + (self.any.random() < 0.01))])))
+        return ("call",) + sides[0] if kind == 0 else ("both",) + sides[0] + sides[1]
+
+    def work(self, name):
+        """One of the works f, g and h, which call one another; seldom it makes nothing but cells that aren't there."""
+        takes, tells = ARITIES[name]
+        self.takes, self.holds, self.calls = ("p", "q")[:takes], 3, 6
+        made = (("set", "l", 1), ("set", "m", 2), ("set", "n", 3)) + self.work_rows() + (("set", "l", "m"),)
+        return deed(name, self.takes, ("l", "m")[:tells], rows=made)
 
     def heap(self):
         addresses = sorted(self.any.sample(range(1, 6), self.any.randint(0, 4)))

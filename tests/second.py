@@ -1,4 +1,4 @@
-"""A second reading of points 13 to 16: loose runs that are done by chance, row by row, and told as they went."""
+"""A second reading of points 13 to 16 and 31: loose runs done by chance, row by row, and told as they went."""
 
 import random
 
@@ -105,6 +105,8 @@ def loops_from(rows, first=0, around=()):
         elif row[0] == "if":
             out.extend(loops_from(row[4], first + 1, around))
             out.extend(loops_from(row[5], first + 1 + len(all_rows(row[4])), around))
+        elif row[0] == "hold":
+            out.extend(loops_from(row[2], first + 1, around))
         first += len(all_rows((row,)))
     return out
 
@@ -116,14 +118,17 @@ def sets_within(rows):
             names.append(row[1])
         elif row[0] == "call":
             names.extend(row[1])
+        elif row[0] == "both":
+            names.extend(row[1] + row[4])
     return sorted(set(names))
 
 
 class LooseRun:
     """A loose run of a piece, by chance."""
 
-    def __init__(self, deeds, deed, piece, chance):
+    def __init__(self, deeds, deed, piece, chance, locks=()):
         self.deeds = {some[0]: some for some in deeds}
+        self.locks = dict(locks)
         self.deed, self.piece, self.chance = deed, piece, chance
         self.draws = []
         self.told = None
@@ -183,6 +188,10 @@ class LooseRun:
                 takes, tells, ahead, behind = self.called(row)
                 worths = {take: number(term, self.worths) for take, term in zip(takes, row[3])}
                 self.leap(first, ahead, behind, worths, tells, row[1])
+            elif row[0] == "both":
+                self.leap_both(row, first)
+            elif row[0] == "hold":
+                self.leap_hold(row, first)
             else:
                 self.plain(row, first)
             first += len(all_rows((row,)))
@@ -192,6 +201,23 @@ class LooseRun:
         if told[0] is None or (len(told[0]), len(told[1])) != (len(row[3]), len(row[1])):
             raise Dead()
         return told
+
+    def leap_both(self, row, here):
+        """Both sides' takes are read ahead of all, and both parts are gone ahead of what comes in."""
+        sides = [("call",) + row[1:4], ("call",) + row[4:7]]
+        made = [self.called(side) for side in sides]
+        read = [{take: number(term, self.worths) for take, term in zip(one[0], side[3])}
+                for one, side in zip(made, sides)]
+        known = [self.out(here, one[2], worths) for one, worths in zip(made, read)]
+        for one, side, worths in zip(made, sides, known):
+            self.back_in(one[3], worths, one[1], side[1])
+
+    def leap_hold(self, row, here):
+        if row[1] not in self.locks:
+            raise Dead()
+        self.back_in(self.locks[row[1]], {}, (), ())
+        self.do_rows(row[2], here + 1)
+        self.out(here, self.locks[row[1]], {})
 
     def plain(self, row, here):
         if row[0] == "set":
@@ -221,25 +247,31 @@ class LooseRun:
         self.leap(here, loop[4], loop[5], {name: self.worths[name] for name in names}, outs, outs)
 
     def leap(self, here, ahead, behind, worths, names, outs):
+        self.back_in(behind, self.out(here, ahead, worths), names, outs)
+
+    def out(self, here, ahead, worths):
         told = walked(ahead, heap_from(self.cells), worths)
         if told is None:
             raise Fail("lacks", here)
         for cell in told[0]:
             del self.cells[cell[0]]
+        return told[1]
+
+    def back_in(self, behind, worths, names, outs):
         numbers = tuple([self.chance.number() for _ in names])
-        known = {**told[1], **dict(zip(names, numbers))}
+        known = {**worths, **dict(zip(names, numbers))}
         come = self.chance.lay(behind, known, self.cells)
         self.cells.update(come)
         self.worths.update(zip(outs, numbers))
         self.draws.append((heap_from(come), numbers))
 
 
-def some_run(deeds, deed, seed):
+def some_run(deeds, deed, seed, locks=()):
     """A loose run of some piece, as it is told, and how it fails or None; None where it comes to nothing."""
     any_of = random.Random(seed)
     numbers = any_of.choice([(0, 1, 2, 3), (0, 1, 2, 3, 4, 5, 6), (-1, 0, 1, 2, 3, 7, 8, 9)])
     piece = any_of.randrange(1 + 2 * len(loops_from(deed[5])))
-    run = LooseRun(deeds, deed, piece, Chance(any_of.random(), numbers))
+    run = LooseRun(deeds, deed, piece, Chance(any_of.random(), numbers), locks)
     try:
         run.run()
     except Dead:
@@ -249,11 +281,11 @@ def some_run(deeds, deed, seed):
     return run.told, None
 
 
-def failing_run(deeds, deed, tries, seed):
+def failing_run(deeds, deed, tries, seed, locks=()):
     """A loose run that fails, as it is told, found by chance; None where none was found."""
     any_of = random.Random(seed)
     for _ in range(tries):
-        found = some_run(deeds, deed, any_of.random())
+        found = some_run(deeds, deed, any_of.random(), locks)
         if found is not None and found[1] is not None:
             return found[0]
     return None
