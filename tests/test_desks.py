@@ -125,6 +125,15 @@ class Runs(DeskTest):
         desk = desk_of(LOOP.replace("pass", "set a 1").replace("0 is 0", "a is 0") + "\nset b 0")
         self.answers(desk, "run loop - | -", "ends - | -")
 
+    def test_a_thousand_rows_and_no_more(self):
+        walk = ("deed d takes x ; tells -\nahead none\nbehind none\nset z x\nwhile z isn't 0\n  ahead none\n"
+                "  behind none\n  get z z next")
+        cells = " ".join([f"{k}:0:{k + 1}" for k in range(1, 499)] + ["499:0:0"])
+        # Each of 499 cells takes a test and a get, and there are a set and a last test.
+        self.answers(desk_of(walk), "run d 1 | " + cells, "ends - | " + cells)
+        self.answers(desk_of(walk + "\nset z 0"), "run d 1 | " + cells, "steps")
+        self.answers(desk_of(walk.replace("set z x", "set z x\nset z x")), "run d 1 | " + cells, "steps")
+
     def test_as_run_tells(self):
         any_of = random.Random(2)
         desk = desk_of(*TEXTS.strip("\n").split("\n\n"))

@@ -19,7 +19,7 @@ METHODS = """
 """.split()
 OUTSIDE = {"heapq": ("heappush", "heappop", "heapify"), "math": ("gcd", "lcm"),
            "itertools": ("product", "combinations", "permutations")}
-DOUBLES = ("__init__", "__eq__", "__len__")
+DOUBLES = ("__init__", "__eq__", "__len__", "__contains__")
 STATEMENTS = (
     ast.FunctionDef, ast.ClassDef, ast.Import, ast.ImportFrom, ast.Assign, ast.AugAssign, ast.If, ast.While, ast.For,
     ast.Return, ast.Break, ast.Continue, ast.Pass, ast.Raise, ast.Assert, ast.Delete, ast.Try, ast.Expr,
@@ -229,6 +229,13 @@ class Language(unittest.TestCase):
             "books": "Book",
             "desks": "Desk",
             "refusals": "NoWork NoLock NoStart NoRun NoMark Over",
+            "works": "is_work are_locks show_work show_locks read_work read_locks",
+            "weavings": "weave woven",
+            "guards": "guarded owners",
+            "loosely": "played_work",
+            "judged": "judged",
+            "orders": "may_take order_or_ring",
+            "yards": "Yard",
         }
         for file, names in places.items():
             for name in names.split():
