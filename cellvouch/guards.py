@@ -65,14 +65,14 @@ class Guarded(Weaving):
         except Blamed as blamed:
             # A work without rows: its end is all that there is of it.
             self.standing = []
-            self.met = blamed.told
+            self.met = blamed.found
 
     def done(self, hand):
         """Do a step of a hand; told is the blame where a loose run fails in it."""
         try:
             self.step(hand)
         except Blamed as blamed:
-            return blamed.told
+            return blamed.found
         return None
 
     def race(self, pair):

@@ -2,11 +2,11 @@
 
 
 class Blamed(Exception):
-    """A loose run fails; told is what a weaving tells of it."""
+    """A loose run fails; found is what a weaving tells of it."""
 
-    def __init__(self, told):
+    def __init__(self, found):
         super().__init__("a loose run fails")
-        self.told = told
+        self.found = found
 
 
 def addresses_of(heap):

@@ -194,6 +194,52 @@ hold k
   hold l
     put 1 next 7
 
+deed walk takes - ; tells z
+ahead none
+behind none
+hold k
+  get a 3 worth
+  get b 3 next
+  set z a
+  while z isn't b
+    ahead cell 3 a b ; row a z p ; row z b q ; row b 0 t
+    behind cell 3 a b ; row a b p q ; row b 0 t
+    get w z worth
+    get z z next
+
+deed flush takes - ; tells -
+ahead none
+behind none
+hold k
+  get z 3 worth
+  get b 3 next
+  while z isn't b
+    ahead row z b p ; row b 0 t
+    behind row b 0 t
+    get n z next
+    free z
+    set z n
+  put 3 worth b
+
+deed whole takes - ; tells -
+ahead none
+behind none
+hold k
+  get a 3 worth
+  put 3 next a
+
+deed further takes - ; tells n
+ahead none
+behind none
+both - = whole - ; m = walk -
+hold k
+  get b 3 next
+  if b isn't 0
+    get n b next
+    put 3 next n
+  else
+    pass
+
 deed many takes x ; tells a b
 ahead row x 0 r
 behind row x 0 r
